@@ -1,0 +1,1 @@
+"""Alikeruns: what nodes that may stop can do together, with evidence."""

@@ -1,0 +1,10 @@
+"""The bounds that the document gives."""
+
+MOST_NODES = 4
+MOST_STATES = 400
+MOST_MOVES = 2000
+MOST_MARK = 10000
+MOST_HINT = 1000
+MOST_LOST = 12
+MOST_ROUNDS = 5
+MOST_RUNS = 30000

@@ -1,0 +1,1 @@
+"""The tests of alikeruns. Run them with: python3 -m unittest discover -s tests -t ."""

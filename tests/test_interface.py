@@ -1,0 +1,83 @@
+"""The interface: names, arguments, and the file in which each is defined."""
+
+import inspect
+import unittest
+
+from alikeruns import errors, runs, sights, worlds
+
+FUNCTIONS = (
+    (worlds, "stops_world", "(nodes, most, *, blind=False)"),
+    (worlds, "losses_world", "(nodes, most, *, blind=False)"),
+    (worlds, "hears_world", "(nodes, least, *, blind=False)"),
+    (worlds, "with_due", "(world, dues)"),
+    (worlds, "stops_due", "(nodes, most)"),
+    (worlds, "with_marks", "(world, pairs)"),
+    (runs, "count_runs", "(world, rounds)"),
+    (runs, "runs", "(world, rounds)"),
+    (runs, "states_of", "(world, run)"),
+    (sights, "sight", "(world, run, node, time)"),
+    (sights, "alike", "(world, one, other, node, time)"),
+    (sights, "due_sights", "(world, rounds)"),
+)
+
+CLASSES = (
+    (worlds, "World", "(nodes, states, start, *, blind=False)"),
+    (errors, "BadValue", "(at)"),
+    (errors, "BadState", "(at)"),
+    (errors, "BadRow", "(at)"),
+    (errors, "BadRun", "(at)"),
+    (errors, "BadSyntax", "(at)"),
+    (errors, "BadLine", "(at)"),
+    (errors, "TooMany", "(word)"),
+)
+
+
+class Interface(unittest.TestCase):
+
+    def test_functions_have_their_names_and_arguments_in_their_files(self):
+        for module, name, arguments in FUNCTIONS:
+            function = getattr(module, name)
+            self.assertTrue(inspect.isfunction(function), name)
+            self.assertEqual(function.__module__, module.__name__, name)
+            self.assertEqual(str(inspect.signature(function)), arguments, name)
+
+    def test_classes_have_their_names_and_arguments_in_their_files(self):
+        for module, name, arguments in CLASSES:
+            kind = getattr(module, name)
+            self.assertTrue(inspect.isclass(kind), name)
+            self.assertEqual(kind.__module__, module.__name__, name)
+            self.assertEqual(str(inspect.signature(kind)), arguments, name)
+        self.assertEqual(errors.NodesError.__module__, "alikeruns.errors")
+
+    def test_the_methods_of_a_world_are_defined_in_its_class(self):
+        for name in ("__init__", "__eq__", "__len__"):
+            self.assertIn(name, vars(worlds.World))
+
+    def test_arguments_may_be_passed_by_name(self):
+        world = worlds.stops_world(nodes=2, most=1, blind=True)
+        self.assertEqual(world, worlds.stops_world(2, 1, blind=True))
+        self.assertEqual(worlds.World(nodes=2, states=world.states, start=0, blind=True), world)
+        self.assertEqual(len(worlds.losses_world(nodes=2, most=0, blind=False)), 1)
+        self.assertEqual(len(worlds.hears_world(nodes=2, least=0, blind=False)), 1)
+        self.assertEqual(worlds.stops_due(nodes=1, most=0), ((0, 1),))
+        due = worlds.with_due(world=world, dues=((0, 0),))
+        self.assertEqual(worlds.with_marks(world=due, pairs=()), due)
+        self.assertEqual(runs.count_runs(world=world, rounds=0), 1)
+        self.assertEqual(runs.runs(world=world, rounds=0), (((0, 0), ()),))
+        run = ((0, 0), (0,))
+        self.assertEqual(runs.states_of(world=world, run=run), (0, 0))
+        self.assertEqual(sights.sight(world=world, run=run, node=1, time=0), (1, 0))
+        self.assertTrue(sights.alike(world=world, one=run, other=run, node=1, time=1))
+        self.assertEqual(sights.due_sights(world=due, rounds=0), ((0, 0), (1, 0)))
+
+    def test_arguments_behind_the_star_are_passed_by_name_only(self):
+        for call, arguments in ((worlds.World, (1, [(0, (0,), False, [([()], [0], 0)])], 0, True)),
+                                (worlds.stops_world, (1, 1, True)), (worlds.losses_world, (1, 1, True)),
+                                (worlds.hears_world, (1, 0, True))):
+            call(*arguments[:-1])
+            with self.assertRaises(TypeError):
+                call(*arguments)
+
+
+if __name__ == "__main__":
+    unittest.main()

@@ -1,0 +1,89 @@
+"""Values and worlds that several tests use."""
+
+import random
+
+from alikeruns.worlds import World
+
+DEEP = 1
+for _ in range(39):
+    DEEP = [DEEP]
+
+# Values of kinds that no argument with an error is of, or that are far away.
+JUNK = (None, True, False, "", "0", "1", "ab", "(0, 0)", "\n", "x" * 20000, [], (), [[]], ((),), [None], ["a"],
+        [True], (False,), [[0, 2], [0]], ((0, 1), (0, 2), 3), DEEP, [0] * 20000, 10 ** 30, -10 ** 30)
+
+NOT_INTEGERS = tuple(value for value in JUNK if type(value) is not int)
+
+NOT_SEQUENCES = tuple(value for value in JUNK if type(value) not in (list, tuple))
+
+
+def error_of(call, *args, **more):
+    """The class name and the argument of the error that a call raises; None if it returns."""
+    try:
+        call(*args, **more)
+    except Exception as error:
+        kept = [getattr(error, name) for name in ("at", "word") if hasattr(error, name)]
+        return (type(error).__name__,) + tuple(kept)
+    return None
+
+
+def is_plain(value):
+    """Whether a value is built from plain tuples, integers, strings, bools and None only."""
+    if type(value) is tuple:
+        return all(is_plain(x) for x in value)
+    return value is None or type(value) in (int, str, bool)
+
+
+def chain_world(sizes, nodes=1, blind=True):
+    """A world of states in a row, with so many moves each, all to the next one, the last to itself."""
+    live = tuple(range(nodes))
+    states = []
+    for number, size in enumerate(sizes):
+        to = min(number + 1, len(sizes) - 1)
+        moves = [(((),) * nodes, (hint,) + (0,) * (nodes - 1), to) for hint in range(-1000, size - 1000)]
+        states.append((number, live, False, moves))
+    return World(nodes, states, 0, blind=blind)
+
+
+def fan_world(many, more):
+    """So many moves to a state of 2,000 moves, and some more to a state of one move."""
+    moves = [(((),), (hint,), 1) for hint in range(many)] + [(((),), (hint,), 2) for hint in range(more)]
+    last = [(((),), (hint,), 2) for hint in range(-1000, 1000)]
+    return World(1, [(0, (0,), False, moves), (1, (0,), True, last), (2, (0,), False, last[:1])], 0, blind=True)
+
+
+def random_states(source, nodes, many, most_moves):
+    """States of a world, as lists."""
+    lives = [list(range(nodes))]
+    for _ in range(many - 1):
+        lives.append(sorted(source.sample(range(nodes), source.randint(0, nodes))))
+    states = []
+    for number, live in enumerate(lives):
+        targets = [to for to, there in enumerate(lives) if set(there) <= set(live)]
+        moves = []
+        for _ in range(source.randint(1, most_moves)):
+            move = random_move(source, nodes, live, source.choice(targets), lives)
+            if move not in moves:
+                moves.append(move)
+        states.append([source.choice((0, 1, 2, 7, 10000)), live, source.random() < 0.4, moves])
+    return states
+
+
+def random_move(source, nodes, live, to, lives):
+    heard, hints = [], []
+    for node in range(nodes):
+        if node in lives[to]:
+            others = [other for other in live if other != node]
+            heard.append(sorted(source.sample(others, source.randint(0, len(others)))))
+            hints.append(source.choice((0, 0, 1, -1000, 1000)))
+        else:
+            heard.append(None)
+            hints.append(None)
+    return [heard, hints, to]
+
+
+def random_world(seed, most_nodes=3, most_states=4, most_moves=3):
+    source = random.Random(seed)
+    nodes = source.randint(1, most_nodes)
+    states = random_states(source, nodes, source.randint(1, most_states), most_moves)
+    return World(nodes, states, source.randrange(len(states)) if seed % 3 == 0 else 0, blind=seed % 5 == 0)
