@@ -82,6 +82,6 @@ def _ways_later(world, ways):
     """In how many ways each state is reached one round later than in these ways."""
     later = {}
     for state in ways:
-        for _, _, to in world.states[state][3]:
-            later[to] = later.get(to, 0) + ways[state]
+        for move in world.states[state][3]:
+            later[move[2]] = later.get(move[2], 0) + ways[state]
     return later
