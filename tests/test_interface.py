@@ -3,7 +3,7 @@
 import inspect
 import unittest
 
-from alikeruns import errors, runs, sights, worlds
+from alikeruns import agreement, chains, errors, keen, programs, runs, sights, worlds
 
 FUNCTIONS = (
     (worlds, "stops_world", "(nodes, most, *, blind=False)"),
@@ -18,6 +18,12 @@ FUNCTIONS = (
     (sights, "sight", "(world, run, node, time)"),
     (sights, "alike", "(world, one, other, node, time)"),
     (sights, "due_sights", "(world, rounds)"),
+    (agreement, "agree", "(world, rounds, *, sights=None)"),
+    (agreement, "fewest_rounds", "(world, most)"),
+    (chains, "chain_holds", "(world, rounds, chain, *, sights=None)"),
+    (programs, "failing_run", "(world, rounds, program, *, sights=None)"),
+    (keen, "keen", "(world, rounds, *, sights=None)"),
+    (keen, "beater", "(world, rounds, program)"),
 )
 
 CLASSES = (
@@ -69,11 +75,23 @@ class Interface(unittest.TestCase):
         self.assertEqual(sights.sight(world=world, run=run, node=1, time=0), (1, 0))
         self.assertTrue(sights.alike(world=world, one=run, other=run, node=1, time=1))
         self.assertEqual(sights.due_sights(world=due, rounds=0), ((0, 0), (1, 0)))
+        program = (((0, 0), 0), ((1, 0), 0))
+        asked = ((0, 0), (1, 0))
+        self.assertEqual(agreement.agree(world=due, rounds=0, sights=asked), ("program", program))
+        self.assertEqual(agreement.fewest_rounds(world=due, most=1), (0, program, ()))
+        self.assertFalse(chains.chain_holds(world=due, rounds=0, chain=None, sights=asked))
+        self.assertIsNone(programs.failing_run(world=due, rounds=0, program=program, sights=asked))
+        self.assertEqual(keen.keen(world=due, rounds=0, sights=asked), ("program", program))
+        self.assertIsNone(keen.beater(world=due, rounds=0, program=program))
 
     def test_arguments_behind_the_star_are_passed_by_name_only(self):
         for call, arguments in ((worlds.World, (1, [(0, (0,), False, [([()], [0], 0)])], 0, True)),
                                 (worlds.stops_world, (1, 1, True)), (worlds.losses_world, (1, 1, True)),
-                                (worlds.hears_world, (1, 0, True))):
+                                (worlds.hears_world, (1, 0, True)),
+                                (agreement.agree, (worlds.losses_world(1, 0), 0, ())),
+                                (chains.chain_holds, (worlds.losses_world(1, 0), 0, (), ())),
+                                (programs.failing_run, (worlds.losses_world(1, 0), 0, (), ())),
+                                (keen.keen, (worlds.losses_world(1, 0), 0, ()))):
             call(*arguments[:-1])
             with self.assertRaises(TypeError):
                 call(*arguments)

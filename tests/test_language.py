@@ -34,6 +34,13 @@ BARRED_NAMES = {"mro", "elements", "open", "input", "law", "version_info", "with
 BARRED_WORDS = re.compile(r"\b(type|typing|enum|Enum|IntEnum|StrEnum|Flag|Generic|Protocol|ABC|namedtuple|NamedTuple|"
                           r"TypedDict|abstractmethod)\b|dataclass|overload|contextmanager|_wall|_WallAttr")
 
+BARRED_ATTRIBUTES = set("""items keys values pop update append clear extend insert remove reverse setdefault sort args
+    encode decode hex fromhex format""".split())
+
+VIEWS = {"zip", "enumerate", "reversed", "range", "items", "keys", "values"}
+
+TAKERS = {"list", "tuple", "dict", "sorted", "sum", "any", "all", "enumerate", "zip", "min", "max"}
+
 STATEMENTS = (ast.Assign, ast.AugAssign, ast.If, ast.While, ast.For, ast.Return, ast.Break, ast.Continue, ast.Pass,
               ast.Raise, ast.Assert, ast.Delete, ast.Nonlocal, ast.Match, ast.Try, ast.Expr, ast.FunctionDef,
               ast.ClassDef, ast.ImportFrom)
@@ -205,6 +212,33 @@ class Language(unittest.TestCase):
                 if isinstance(inner, ast.FunctionDef) and inner.name.startswith("__"):
                     self.assertIn(inner.name, DOUBLE, place)
 
+    def test_attributes_are_no_methods(self):
+        for node, place in nodes(ast.Attribute):
+            if isinstance(node.ctx, ast.Store):
+                self.assertNotIn(node.attr, BARRED_ATTRIBUTES, place)
+        for node, place in nodes(ast.ClassDef):
+            methods = [inner.name for inner in node.body if isinstance(inner, ast.FunctionDef)]
+            self.assertEqual(len(methods), len(set(methods)), place)
+            for inner in ast.walk(node):
+                if isinstance(inner, ast.Attribute) and isinstance(inner.ctx, ast.Store):
+                    self.assertNotIn(inner.attr, methods, place)
+
+    def test_zips_ranges_and_views_are_iterated_at_once(self):
+        for tree in trees().values():
+            above = {id(child): node for node in ast.walk(tree) for child in ast.iter_child_nodes(node)}
+            for node in ast.walk(tree):
+                if isinstance(node, ast.Call) and getattr(node.func, "id", getattr(node.func, "attr", "")) in VIEWS:
+                    self.assertTrue(self.iterated(node, above[id(node)]), ast.unparse(above[id(node)]))
+
+    def iterated(self, node, parent):
+        if isinstance(parent, (ast.For, ast.comprehension)):
+            return node is parent.iter
+        if isinstance(parent, ast.Call):
+            taker = getattr(parent.func, "id", "")
+            return taker in TAKERS or taker == "len" and node.func.id == "range"
+        kept = isinstance(parent, ast.Assign) and len(parent.targets) == 1 and isinstance(parent.targets[0], ast.Name)
+        return kept and getattr(node.func, "id", "") == "range"
+
     def test_words_and_strings(self):
         for path, tree in trees().items():
             told = docstrings(tree)
@@ -214,6 +248,20 @@ class Language(unittest.TestCase):
                     self.assertIsNone(BARRED_WORDS.search(node.value), f"{path.name}:{node.lineno}")
                 if isinstance(node, ast.Name):
                     self.assertIsNone(BARRED_WORDS.search(node.id), f"{path.name}:{node.lineno}")
+
+    def test_sets_stay_in_their_functions(self):
+        for node, place in nodes((ast.Return, ast.Dict, ast.List, ast.Tuple)):
+            for child in ast.iter_child_nodes(node):
+                self.assertNotIsInstance(child, (ast.Set, ast.SetComp), place)
+        for function, place in nodes(ast.FunctionDef):
+            kept = {node.targets[0].id for node in ast.walk(function) if isinstance(node, ast.Assign)
+                    and (isinstance(node.value, (ast.Set, ast.SetComp)) or ast.unparse(node.value).startswith("set("))}
+            for node in ast.walk(function):
+                if isinstance(node, ast.Call) and getattr(node.func, "id", "") not in ("len", "sorted"):
+                    for passed in node.args:
+                        self.assertNotIn(getattr(passed, "id", ""), kept, place)
+                if isinstance(node, ast.Return):
+                    self.assertNotIn(getattr(node.value, "id", ""), kept, place)
 
     def test_sets_are_not_iterated(self):
         for node, place in nodes((ast.For, ast.comprehension)):

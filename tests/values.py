@@ -2,7 +2,8 @@
 
 import random
 
-from alikeruns.worlds import World
+from alikeruns.runs import count_runs
+from alikeruns.worlds import World, hears_world, losses_world, stops_due, stops_world, with_due
 
 DEEP = 1
 for _ in range(39):
@@ -15,6 +16,9 @@ JUNK = (None, True, False, "", "0", "1", "ab", "(0, 0)", "\n", "x" * 20000, [], 
 NOT_INTEGERS = tuple(value for value in JUNK if type(value) is not int)
 
 NOT_SEQUENCES = tuple(value for value in JUNK if type(value) not in (list, tuple))
+
+# More than 30,000 runs have two moves.
+CROWDED = losses_world(4, 5)
 
 
 def error_of(call, *args, **more):
@@ -87,3 +91,29 @@ def random_world(seed, most_nodes=3, most_states=4, most_moves=3):
     nodes = source.randint(1, most_nodes)
     states = random_states(source, nodes, source.randint(1, most_states), most_moves)
     return World(nodes, states, source.randrange(len(states)) if seed % 3 == 0 else 0, blind=seed % 5 == 0)
+
+
+def silent_world(nodes, blind=False):
+    """The world in which no message ever arrives."""
+    return World(nodes, [(0, tuple(range(nodes)), False, [(((),) * nodes, (0,) * nodes, 0)])], 0, blind=blind)
+
+
+def all_due(world, time):
+    """The world with all its marks due from this time on."""
+    return with_due(world, [(mark, time) for mark in sorted({state[0] for state in world.states})])
+
+
+def small_cases():
+    """Worlds and numbers of rounds with few runs: of all families, blind or not, with hints and by chance."""
+    hints = [(((1,), ()), (hint, -hint), 0) for hint in (0, 5)] + [(((), (0,)), (0, 0), 0)]
+    cases = [(all_due(world, time), time) for time in (0, 1, 2) for world in (
+        stops_world(2, 1), stops_world(2, 2), stops_world(2, 1, blind=True), losses_world(1, 0), losses_world(2, 0),
+        losses_world(2, 1), losses_world(2, 2, blind=True), hears_world(2, 0), silent_world(2), silent_world(3),
+        World(2, [(0, (0, 1), False, hints)], 0))]
+    cases += [(with_due(stops_world(2, 1), stops_due(2, 1)), 2), (with_due(stops_world(3, 1), stops_due(3, 1)), 1),
+              (with_due(stops_world(3, 1), ((0, 1), (1, 0), (4, 1))), 1), (with_due(stops_world(2, 2), ((1, 1),)), 2),
+              (all_due(losses_world(3, 1), 1), 1), (losses_world(2, 1), 2), (stops_world(2, 1), 0)]
+    for seed in range(40):
+        world = random_world(seed, most_moves=5)
+        cases += [(world, rounds) for rounds in range(4) if count_runs(world, rounds) <= 100]
+    return cases
