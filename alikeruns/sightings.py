@@ -11,19 +11,21 @@ class Sightings:
 
     Every shorter run is the beginning of one of these, so that they show
     every sight that occurs within rounds. An earlier sight has a lesser number.
+    states has, for each run, the numbers of its states at all times.
     """
 
     def __init__(self, world, rounds):
         check_few_runs(world, rounds)
         self.views = Views()
         self.due = {}
-        rows = [((inputs, ()), world.start, (self.views.at_start(world, inputs),)) for inputs in all_inputs(world)]
+        rows = [((inputs, ()), (world.start,), (self.views.at_start(world, inputs),)) for inputs in all_inputs(world)]
         self._keep_due(world, rows)
         for _ in range(rounds):
             rows = [self._row_later(row, number, move) for row in rows
-                    for number, move in enumerate(world.states[row[1]][3])]
+                    for number, move in enumerate(world.states[row[1][-1]][3])]
             self._keep_due(world, rows)
         self.runs = tuple([row[0] for row in rows])
+        self.states = tuple([row[1] for row in rows])
         self.histories = tuple([row[2] for row in rows])
 
     def runs_with(self, asked):
@@ -46,12 +48,12 @@ class Sightings:
         return inputs.count(value) == len(inputs)
 
     def _row_later(self, row, number, move):
-        (inputs, moves), _, history = row
-        return ((inputs, moves + (number,)), move[2], history + (self.views.after_move(history[-1], move),))
+        (inputs, moves), states, history = row
+        return ((inputs, moves + (number,)), states + (move[2],), history + (self.views.after_move(history[-1], move),))
 
     def _keep_due(self, world, rows):
-        for _, state, history in rows:
-            if world.states[state][2]:
+        for _, states, history in rows:
+            if world.states[states[-1]][2]:
                 for number in history[-1]:
                     if number is not None:
                         self.due[number] = True

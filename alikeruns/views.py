@@ -19,7 +19,7 @@ class Views:
     def at_start(self, world, inputs):
         """For each node the number of its sight at time 0, None if it is not live."""
         live = world.states[world.start][1]
-        return tuple([self._first(node, inputs[node]) if node in live else None
+        return tuple([self.first(node, inputs[node]) if node in live else None
                       for node in range(world.nodes)])
 
     def after_move(self, before, move):
@@ -30,7 +30,7 @@ class Views:
             if others is None:
                 found.append(None)
             else:
-                found.append(self._later(before[node], hints[node], tuple([before[other] for other in others])))
+                found.append(self.later(before[node], hints[node], tuple([before[other] for other in others])))
         return tuple(found)
 
     def number_of(self, value):
@@ -44,13 +44,19 @@ class Views:
             return self.numbers.get((self.number_of(value[0]), value[1], heard))
         return None
 
-    def _first(self, node, value):
+    def later_numbers(self):
+        """The numbers of all sights of times from 1 on."""
+        return [number for number, before in enumerate(self.befores) if before is not None]
+
+    def first(self, node, value):
+        """The number of a sight at time 0, a new one if it has none yet."""
         key = (node, value)
         if key not in self.numbers:
             self._keep(key, key, None)
         return self.numbers[key]
 
-    def _later(self, before, hint, heard):
+    def later(self, before, hint, heard):
+        """The number of the sight that has sights of these numbers and a hint in it, a new one if it has none yet."""
         key = (before, hint, heard)
         if key not in self.numbers:
             told = tuple([self.sights[number] for number in heard])

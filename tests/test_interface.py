@@ -3,7 +3,8 @@
 import inspect
 import unittest
 
-from alikeruns import agreement, chains, errors, keen, programs, runs, sights, worlds
+from alikeruns import (agreement, chains, demands, errors, keen, knowledge, making, programs, refuting, runs, sights,
+                       worlds)
 
 FUNCTIONS = (
     (worlds, "stops_world", "(nodes, most, *, blind=False)"),
@@ -24,10 +25,20 @@ FUNCTIONS = (
     (programs, "failing_run", "(world, rounds, program, *, sights=None)"),
     (keen, "keen", "(world, rounds, *, sights=None)"),
     (keen, "beater", "(world, rounds, program)"),
+    (knowledge, "is_fact", "(world, value)"),
+    (knowledge, "holds", "(world, run, fact)"),
+    (knowledge, "knows", "(world, run, node, fact)"),
+    (knowledge, "link", "(world, one, other)"),
+    (knowledge, "common", "(world, run, fact)"),
+    (demands, "keeps", "(world, run, demand, outputs)"),
+    (making, "make", "(world, rounds, demand)"),
+    (making, "broken_run", "(world, rounds, demand, table)"),
+    (refuting, "refutation_holds", "(world, rounds, demand, tree)"),
 )
 
 CLASSES = (
     (worlds, "World", "(nodes, states, start, *, blind=False)"),
+    (demands, "Demand", "(nodes, outs, states, starts)"),
     (errors, "BadValue", "(at)"),
     (errors, "BadState", "(at)"),
     (errors, "BadRow", "(at)"),
@@ -55,9 +66,11 @@ class Interface(unittest.TestCase):
             self.assertEqual(str(inspect.signature(kind)), arguments, name)
         self.assertEqual(errors.NodesError.__module__, "alikeruns.errors")
 
-    def test_the_methods_of_a_world_are_defined_in_its_class(self):
+    def test_the_methods_of_classes_are_defined_in_them(self):
         for name in ("__init__", "__eq__", "__len__"):
             self.assertIn(name, vars(worlds.World))
+        for name in ("__init__", "__eq__"):
+            self.assertIn(name, vars(demands.Demand))
 
     def test_arguments_may_be_passed_by_name(self):
         world = worlds.stops_world(nodes=2, most=1, blind=True)
@@ -83,6 +96,21 @@ class Interface(unittest.TestCase):
         self.assertIsNone(programs.failing_run(world=due, rounds=0, program=program, sights=asked))
         self.assertEqual(keen.keen(world=due, rounds=0, sights=asked), ("program", program))
         self.assertIsNone(keen.beater(world=due, rounds=0, program=program))
+
+    def test_arguments_of_facts_and_demands_may_be_passed_by_name(self):
+        world = worlds.losses_world(nodes=1, most=0, blind=True)
+        run, fact = ((0,), (0,)), ("any", 0)
+        self.assertTrue(knowledge.is_fact(world=world, value=fact))
+        self.assertTrue(knowledge.holds(world=world, run=run, fact=fact))
+        self.assertTrue(knowledge.knows(world=world, run=run, node=0, fact=fact))
+        self.assertEqual(knowledge.link(world=world, one=run, other=run), ((run,), ()))
+        self.assertTrue(knowledge.common(world=world, run=run, fact=fact))
+        demand = demands.Demand(nodes=1, outs=1, states=[[(0, ((0,),), 0)]], starts=[0])
+        self.assertTrue(demands.keeps(world=world, run=run, demand=demand, outputs=[[0]]))
+        table = ((((0, 0), 0, ()), 0),)
+        self.assertEqual(making.make(world=world, rounds=1, demand=demand), ("table", table))
+        self.assertIsNone(making.broken_run(world=world, rounds=1, demand=demand, table=table))
+        self.assertFalse(refuting.refutation_holds(world=world, rounds=1, demand=demand, tree=None))
 
     def test_arguments_behind_the_star_are_passed_by_name_only(self):
         for call, arguments in ((worlds.World, (1, [(0, (0,), False, [([()], [0], 0)])], 0, True)),

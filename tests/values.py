@@ -117,3 +117,52 @@ def small_cases():
         world = random_world(seed, most_moves=5)
         cases += [(world, rounds) for rounds in range(4) if count_runs(world, rounds) <= 100]
     return cases
+
+
+def hints_world(hints, marks=(0,), nodes=1):
+    """A blind world with a move for each hint of node 0, to states of these marks in turn; nobody hears anything."""
+    live = tuple(range(nodes))
+
+    def move(hint, to):
+        return (((),) * nodes, (hint,) + (0,) * (nodes - 1), to)
+    first = [move(hint, hint % len(marks)) for hint in range(hints)]
+    states = [(mark, live, False, [move(0, number)]) for number, mark in enumerate(marks)]
+    return World(nodes, states + [(0, live, False, first)], len(marks), blind=True)
+
+
+def blurred_world(seed):
+    """A world by chance of states that the nodes can hardly tell apart, with other marks."""
+    source = random.Random(seed)
+    nodes = source.choice((1, 2, 2, 2, 3))
+    live = tuple(range(nodes))
+    states = []
+    for mark in range(source.randint(2, 4)):
+        moves = {}
+        for _ in range(source.randint(1, 6)):
+            heard = tuple(tuple(sorted(source.sample([other for other in live if other != node],
+                                                     source.choice((0, 0, nodes - 1))))) for node in live)
+            moves[(heard, tuple(source.choice((0, 0, 1)) for _ in live), source.randrange(4))] = True
+        states.append((mark, live, False, moves))
+    return World(nodes, [(mark, live, due, list({(heard, hints, to % len(states)): True for heard, hints, to in moves}))
+                         for mark, live, due, moves in states], 0, blind=source.random() < 0.6)
+
+
+def making_cases():
+    """Worlds and numbers of rounds in which few sights occur: given by hand, of all families, with hints, by chance."""
+    hints = [(((1,), ()), (hint, -hint), 0) for hint in (0, 5)] + [(((), (0,)), (0, 0), 0)]
+    cases = [(losses_world(1, 0), 1), (losses_world(1, 0), 3), (losses_world(2, 0), 1), (losses_world(2, 1), 1),
+             (losses_world(2, 0, blind=True), 2), (losses_world(2, 1, blind=True), 2), (stops_world(1, 1), 2),
+             (stops_world(2, 1), 1), (stops_world(2, 2), 1), (stops_world(2, 1, blind=True), 2),
+             (stops_world(2, 2, blind=True), 2), (stops_world(3, 1, blind=True), 1), (hears_world(2, 0), 1),
+             (hears_world(2, 1, blind=True), 3), (hears_world(3, 1, blind=True), 1), (silent_world(2), 1),
+             (silent_world(2, blind=True), 3), (World(2, [(0, (0, 1), False, hints)], 0), 1),
+             (World(2, [(0, (0, 1), False, hints)], 0, blind=True), 2), (hints_world(5, (0, 1, 2)), 1),
+             (hints_world(3, (1, 2), 2), 2), (losses_world(2, 2), 0), (stops_world(2, 2), 0)]
+    for seed in range(60):
+        world = random_world(seed, most_nodes=2)
+        cases += [(world, rounds) for rounds in range(1, 4) if 1 < count_runs(world, rounds) <= 24]
+    for seed in range(120):
+        world = blurred_world(seed)
+        cases += [(world, rounds) for rounds in (1, 2, 3)
+                  if world.nodes * rounds <= 4 and 2 < count_runs(world, rounds) <= 32]
+    return cases
