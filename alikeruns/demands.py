@@ -49,6 +49,11 @@ def keeps(world, run, demand, outputs):
     return reader.keeps(reader.starts_for(inputs), states, allowed)
 
 
+def is_plain_demand(value):
+    """Whether value is a demand all of whose starts are the same."""
+    return isinstance(value, Demand) and value.starts.count(value.starts[0]) == len(value.starts)
+
+
 def check_nodes(world, demand):
     """BadValue(3) unless a world and a demand have the same number of nodes."""
     if world.nodes != demand.nodes:

@@ -298,11 +298,11 @@ def random_demand(source, world, most_states=3, most_outs=3, most_rows=8, plain_
     return Demand(world.nodes, outs, states, [random_box(source, many) for _ in range(2 ** world.nodes)])
 
 
-def dense_demand(source, world, most_states=2, most_outs=3):
+def dense_demand(source, world, most_states=2, most_outs=3, most_share=0.6):
     """A demand that has rows for all states of the world, with one output in each box: each run for itself keeps it."""
     outs = source.randint(2, most_outs)
     many = source.randint(1, most_states)
-    share = source.uniform(0.05, 0.6)
+    share = source.uniform(0.05, most_share)
     labels = sorted({(state[0], state[1]) for state in world.states})
     states = []
     for _ in range(many):

@@ -3,8 +3,8 @@
 import inspect
 import unittest
 
-from alikeruns import (agreement, chains, demands, errors, keen, knowledge, making, programs, refuting, runs, sights,
-                       worlds)
+from alikeruns import (agreement, chains, console, demands, detectors, errors, hints, keen, knowledge, making,
+                       programs, refuting, runs, sights, texts, worlds)
 
 FUNCTIONS = (
     (worlds, "stops_world", "(nodes, most, *, blind=False)"),
@@ -34,10 +34,24 @@ FUNCTIONS = (
     (making, "make", "(world, rounds, demand)"),
     (making, "broken_run", "(world, rounds, demand, table)"),
     (refuting, "refutation_holds", "(world, rounds, demand, tree)"),
+    (detectors, "perfect", "(nodes)"),
+    (detectors, "cautious", "(nodes)"),
+    (detectors, "complete", "(nodes)"),
+    (detectors, "trusting", "(nodes)"),
+    (detectors, "leaders", "(nodes, wait)"),
+    (detectors, "late", "(detector, wait)"),
+    (hints, "with_hints", "(world, detector)"),
+    (hints, "makes", "(world, rounds, one, other)"),
+    (hints, "changed", "(sight, table)"),
+    (hints, "composed", "(world, rounds, first, second)"),
+    (hints, "order", "(world, rounds, detectors)"),
+    (texts, "printed", "(value)"),
+    (texts, "parse", "(text)"),
 )
 
 CLASSES = (
     (worlds, "World", "(nodes, states, start, *, blind=False)"),
+    (console, "Console", "()"),
     (demands, "Demand", "(nodes, outs, states, starts)"),
     (errors, "BadValue", "(at)"),
     (errors, "BadState", "(at)"),
@@ -71,6 +85,10 @@ class Interface(unittest.TestCase):
             self.assertIn(name, vars(worlds.World))
         for name in ("__init__", "__eq__"):
             self.assertIn(name, vars(demands.Demand))
+        for name, arguments in (("run", "(self, line)"), ("log", "(self)"), ("replayed", "(log)")):
+            self.assertIn(name, vars(console.Console))
+            self.assertEqual(str(inspect.signature(getattr(console.Console, name))), arguments)
+        self.assertIsInstance(vars(console.Console)["replayed"], (staticmethod, classmethod))
 
     def test_arguments_may_be_passed_by_name(self):
         world = worlds.stops_world(nodes=2, most=1, blind=True)
@@ -111,6 +129,24 @@ class Interface(unittest.TestCase):
         self.assertEqual(making.make(world=world, rounds=1, demand=demand), ("table", table))
         self.assertIsNone(making.broken_run(world=world, rounds=1, demand=demand, table=table))
         self.assertFalse(refuting.refutation_holds(world=world, rounds=1, demand=demand, tree=None))
+
+    def test_arguments_of_detectors_hints_and_texts_may_be_passed_by_name(self):
+        world = worlds.losses_world(nodes=1, most=0, blind=True)
+        one = detectors.leaders(nodes=1, wait=0)
+        for call in (detectors.perfect, detectors.cautious, detectors.complete, detectors.trusting):
+            self.assertEqual(call(nodes=1).outs, 2)
+        self.assertEqual(detectors.late(detector=one, wait=0), one)
+        self.assertEqual(len(hints.with_hints(world=world, detector=one)), 2)
+        self.assertTrue(hints.makes(world=world, rounds=1, one=one, other=one))
+        told = ((0, 0), 0, ())
+        table = ((told, 0),)
+        self.assertEqual(hints.changed(sight=told, table=table), told)
+        self.assertEqual(hints.composed(world=world, rounds=1, first=table, second=table), table)
+        self.assertEqual(hints.order(world=world, rounds=1, detectors=[one]), ((True,),))
+        self.assertEqual(texts.parse(text=texts.printed(value=one)), one)
+        kept = console.Console()
+        self.assertEqual(kept.run(line="stops w 1 0"), "ok")
+        self.assertEqual(console.Console.replayed(log=kept.log()).log(), "stops w 1 0\n")
 
     def test_arguments_behind_the_star_are_passed_by_name_only(self):
         for call, arguments in ((worlds.World, (1, [(0, (0,), False, [([()], [0], 0)])], 0, True)),
