@@ -4,14 +4,15 @@ from alikeruns.runs import states_of
 
 
 class Case:
-    """A run, the demand states at its start, its states at all times, and its sights at the times from 1 on.
+    """A run: the demand states at its start, its states at all times, and its sights at the times from 1 on.
 
     seen has, for each of these times, the numbers of the sights of all nodes,
-    None for one that is not live; bits has the bits of all these numbers.
+    None for one that is not live; bits has the bits of all these numbers. The
+    run itself is the example of what cannot be told apart from it.
     """
 
-    def __init__(self, run, starts, states, seen):
-        self.run = run
+    def __init__(self, example, starts, states, seen):
+        self.example = example
         self.starts = starts
         self.states = states
         self.seen = seen

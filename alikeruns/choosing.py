@@ -29,7 +29,7 @@ class Choosing:
         for case in self.cases:
             supports = self._supports(case)
             if supports is None:
-                lost = case.run
+                lost = case.example
                 supports = [(0,) * len(numbers) for numbers in case.seen]
             self._leave(case, supports)
             for number, mask in _sights_with(case, supports):
@@ -118,7 +118,7 @@ class Choosing:
                 self.left[number] = self.left[number] - gone
                 for output in range(self.outs):
                     if (gone >> output) & 1 == 1:
-                        self.broken[(number, output)] = (case.run, case.bits & self.chosen)
+                        self.broken[(number, output)] = (case.example, case.bits & self.chosen)
 
     def _go_back(self, many):
         """Give back what was taken, but for the first many times."""

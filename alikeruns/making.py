@@ -50,7 +50,7 @@ def broken_run(world, rounds, demand, table):
     reader = Reader(world, demand)
     for case in all_cases(sightings, reader):
         if not reader.keeps(case.starts, case.states, case.allowed(allowed)):
-            return (case.run, None)
+            return (case.example, None)
     return None
 
 

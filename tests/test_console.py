@@ -13,15 +13,19 @@ from alikeruns.worlds import hears_world, losses_world, stops_world, with_due
 from tests.values import JUNK, error_of
 
 GOOD = ("stops w 2 1", "stops b 2 1 blind", "losses l 2 1", "losses lb 1 0 blind", "hears h 3 1", "hears hb 2 0 blind",
-        "stops s 3 1", "due d s 0,1 1,1 2,1 4,1", "due e l", "perfect p 2", "cautious c 2", "complete q 2", "trusting t 2", "leaders o 2 1",
+        "stops s 3 1", "due d s 0,1 1,1 2,1 4,1", "due e l", "perfect p 2", "cautious c 2", "complete q 2",
+        "trusting t 2", "leaders o 2 1",
         "hints x b p", "hints y w o", "agree d 1", "agree d 2", "agree w 1", "fewest s 2", "fewest lb 0", "fewest w 0",
         "makes b 1 p c", "makes b 1 c p", "make b 1 q", "make b 1 p", "make x 1 p", "show w", "show p", "show x")
 
 # Lines that are right in form, with answers that name errors.
-FAILING = (("show nobody", "Unknown"), ("agree p 1", "Unknown"), ("agree nobody 1", "Unknown"), ("fewest p 1", "Unknown"),
-           ("due a p 0,1", "Unknown"), ("due a nobody", "Unknown"), ("hints a p p", "Unknown"), ("hints a w w", "Unknown"),
+FAILING = (("show nobody", "Unknown"), ("agree p 1", "Unknown"), ("agree nobody 1", "Unknown"),
+           ("fewest p 1", "Unknown"),
+           ("due a p 0,1", "Unknown"), ("due a nobody", "Unknown"), ("hints a p p", "Unknown"),
+           ("hints a w w", "Unknown"),
            ("hints a nobody p", "Unknown"), ("hints a w nobody", "Unknown"), ("makes w 1 p w", "Unknown"),
-           ("makes w 9 w p", "Unknown"), ("makes p 1 p p", "Unknown"), ("make w 1 w", "Unknown"), ("make p 1 p", "Unknown"),
+           ("makes w 9 w p", "Unknown"), ("makes p 1 p p", "Unknown"), ("make w 1 w", "Unknown"),
+           ("make p 1 p", "Unknown"),
            ("stops a 5 1", "BadValue"), ("stops w 0 0", "BadValue"), ("stops w 2 3", "BadValue"),
            ("stops a 999999999 1", "BadValue"), ("losses a 2 13", "BadValue"), ("losses a 4 12", "TooMany"),
            ("hears a 2 2", "BadValue"), ("hears a 4 0", "TooMany"), ("hears a 4 0 blind", "TooMany"),
@@ -34,7 +38,8 @@ FAILING = (("show nobody", "Unknown"), ("agree p 1", "Unknown"), ("agree nobody 
            ("make w 2 q", "TooMany"))
 
 WRONG = ("", " ", "stops", "stops w", "stops w 2", "stops w 2 1 1", "stops w 2 1 blind blind", "stops w 2 1 Blind",
-         "stops w 2 1 ", " stops w 2 1", "stops  w 2 1", "stops w  2 1", "stops w 2 1\n", "\nstops w 2 1", "Stops w 2 1",
+         "stops w 2 1 ", " stops w 2 1", "stops  w 2 1", "stops w  2 1", "stops w 2 1\n", "\nstops w 2 1",
+         "Stops w 2 1",
          "stops W 2 1", "stops w1 2 1", "stops w_ 2 1", "stops abcdefghijklm 2 1", "stops 2 2 1", "stops w 02 1",
          "stops w -2 1", "stops w +2 1", "stops w 2 1234567890", "stops w 2 x", "stops w two 1", "stops blind 2 blind",
          "losses w 2", "hears w 2 1 2", "due", "due a", "due a w 0", "due a w 0,1,2", "due a w 0,", "due a w ,1",
@@ -121,7 +126,8 @@ class Run(unittest.TestCase):
         for name, value in (("w", stops_world(2, 1)), ("b", stops_world(2, 1, blind=True)), ("l", losses_world(2, 1)),
                             ("lb", losses_world(1, 0, blind=True)), ("h", hears_world(3, 1)),
                             ("hb", hears_world(2, 0, blind=True)),
-                            ("s", stops_world(3, 1)), ("d", with_due(stops_world(3, 1), ((0, 1), (1, 1), (2, 1), (4, 1)))),
+                            ("s", stops_world(3, 1)),
+                            ("d", with_due(stops_world(3, 1), ((0, 1), (1, 1), (2, 1), (4, 1)))),
                             ("e", with_due(losses_world(2, 1), ())), ("p", perfect(2)), ("c", cautious(2)),
                             ("q", complete(2)), ("t", trusting(2)), ("o", leaders(2, 1)),
                             ("y", with_hints(stops_world(2, 1), leaders(2, 1)))):
@@ -144,7 +150,8 @@ class Run(unittest.TestCase):
     def test_one_set_of_names(self):
         console = Console()
         for line, answer in (("stops a 2 1", "ok"), ("perfect a 3", "ok"), ("agree a 1", "error Unknown"),
-                             ("show a", printed(perfect(3))), ("losses a 1 0", "ok"), ("show a", printed(losses_world(1, 0))),
+                             ("show a", printed(perfect(3))), ("losses a 1 0", "ok"),
+                             ("show a", printed(losses_world(1, 0))),
                              ("due a a 0,0", "ok"), ("show a", printed(with_due(losses_world(1, 0), [(0, 0)]))),
                              ("agree a 0", "program"), ("makes a 1 a a", "error Unknown")):
             self.assertEqual(console.run(line), answer)
@@ -196,7 +203,8 @@ class Run(unittest.TestCase):
                 f"losses {name()} 2 {source.randint(0, 1)}{source.choice(('', ' blind'))}", f"hears {name()} 2 1 blind",
                 f"due {name()} {name()} 0,{source.randint(0, 7)} 1,1", f"hints {name()} {name()} {name()}",
                 f"perfect {name()} 2", f"trusting {name()} {source.randint(1, 2)}", f"complete {name()} 2",
-                f"leaders {name()} 2 {source.randint(0, 2)}", f"cautious {name()} 2", f"agree {name()} {source.randint(0, 1)}",
+                f"leaders {name()} 2 {source.randint(0, 2)}", f"cautious {name()} 2",
+                f"agree {name()} {source.randint(0, 1)}",
                 f"fewest {name()} {source.randint(0, 1)}", f"makes {name()} 1 {name()} {name()}",
                 f"make {name()} {source.randint(0, 1)} {name()}", f"show {name()}"))
 
@@ -218,7 +226,9 @@ class Log(unittest.TestCase):
         again = Console.replayed(console.log())
         self.assertIsInstance(again, Console)
         self.assertEqual(again.log(), console.log())
-        for line in GOOD[::-1] + GOOD + tuple(line for line, _ in FAILING) + tuple(f"show {name}" for name in "abcdehlopqstwxy"):
+        lines = list(GOOD[::-1] + GOOD) + [line for line, _ in FAILING]
+        lines += [f"show {name}" for name in "abcdehlopqstwxy"]
+        for line in lines:
             self.assertEqual(again.run(line), console.run(line))
         for wrong in WRONG:
             self.assertEqual(error_of(again.run, wrong), ("BadSyntax", 0))
@@ -246,7 +256,8 @@ class Log(unittest.TestCase):
         for log, at in (("show w", 0), ("show w\nshow w", 1), ("nonsense", 0), ("nonsense\n", 0), ("\n", 0),
                         ("show w\n\n", 1), ("show w\n\nshow w\n", 1), ("show w\nshow  w\nnonsense\n", 1),
                         ("show w\nshow w\n ", 2), ("nonsense\nshow w", 0), ("show w\nnonsense\nshow w", 1),
-                        ("stops w 2 1\nshow w\nstops w 2", 2), ("stops w 2 1\nshow w\nstops w 2\n", 2), ("show w\r\n", 0)):
+                        ("stops w 2 1\nshow w\nstops w 2", 2), ("stops w 2 1\nshow w\nstops w 2\n", 2),
+                        ("show w\r\n", 0)):
             self.assertEqual(error_of(Console.replayed, log), ("BadLine", at), log)
 
     def test_wrong_arguments(self):

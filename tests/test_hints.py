@@ -18,7 +18,7 @@ from tests.demanding import anything
 from tests.reference import listed, plain
 from tests.test_making import sights_of
 from tests.values import (CROWDED, JUNK, NOT_INTEGERS, NOT_SEQUENCES, blurred_world, chain_world, error_of, fan_world,
-                          hints_world, is_plain, random_world, silent_world)
+                          is_plain, random_world, silent_world)
 
 BLIND = stops_world(2, 1, blind=True)
 MIXED = Demand(2, 2, [[(0, ((0,), (0,)), 0)], [(0, ((1,), (1,)), 1)]], [[0], [1], [1], [1]])
@@ -57,11 +57,12 @@ class WithHints(unittest.TestCase):
         detector = Demand(2, 3, [[(6, (None, (0, 2)), 1)], [(6, (None, (1,)), 1)]], [0])
         heard, later = (None, (0,)), (None, ())
         self.assertEqual(with_hints(world, detector).states, (
-            (4, (0, 1), True, ((heard, (None, 0), 1), (heard, (None, 2), 1))), (6, (1,), False, ((later, (None, 1), 1),))))
-        world = World(2, [(4, (0, 1), True, [(((), (0,)), (9, 9), 0), (((), (0,)), (8, 8), 0), (((1,), ()), (9, 9), 0)]),
-                          ], 0, blind=True)
-        detector = Demand(2, 3, [[(4, ((0, 2), (1,)), 1), (4, ((2,), (1,)), 1)], [(4, ((0,), (0,)), 0)]], [0])
+            (4, (0, 1), True, ((heard, (None, 0), 1), (heard, (None, 2), 1))),
+            (6, (1,), False, ((later, (None, 1), 1),))))
         heard, other = ((), (0,)), ((1,), ())
+        moves = [(heard, (9, 9), 0), (heard, (8, 8), 0), (other, (9, 9), 0)]
+        world = World(2, [(4, (0, 1), True, moves)], 0, blind=True)
+        detector = Demand(2, 3, [[(4, ((0, 2), (1,)), 1), (4, ((2,), (1,)), 1)], [(4, ((0,), (0,)), 0)]], [0])
         self.assertEqual(with_hints(world, detector).states, (
             (4, (0, 1), True, ((heard, (0, 1), 2), (heard, (2, 1), 2), (other, (0, 1), 2), (other, (2, 1), 2))),
             (4, (0, 1), True, ((heard, (0, 1), 2), (heard, (2, 1), 2), (other, (0, 1), 2), (other, (2, 1), 2))),
@@ -260,6 +261,19 @@ class Makes(unittest.TestCase):
             self.assertEqual(len(sights_of(with_hints(four, told(last)), 1)), 61)
             self.assertEqual(error_of(makes, four, 1, told(last), anything(4, 1)), ("TooMany", "sights"))
 
+    def test_30000_runs_of_the_world_with_hints_and_more(self):
+        # One hint of some in the first round, then 16 hints on the way to each of 125 demand states.
+        one = silent_world(1, blind=True)
+        for outs, error in ((15, "sights"), (16, "runs")):
+            last = [[(0, ((0,),), at)] for at in range(2, 127)]
+            rows = [(0, (tuple(range(16)),), at) for at in range(2, 127)]
+            detector = Demand(1, 16, [[(0, (tuple(range(outs)),), 1)], rows] + last, [0])
+            self.assertEqual(count_runs(with_hints(one, detector), 2), outs * 2000)
+            self.assertEqual(error_of(makes, one, 2, detector, detector), ("TooMany", error))
+            self.assertEqual(error_of(order, one, 2, [detector]), ("TooMany", error))
+            self.assertEqual(error_of(makes, one, 2, detector, MIXED), ("BadValue", 4))
+            self.assertIs(makes(one, 1, detector, anything(1, 2)), True)
+
     def test_open_outputs_multiplied(self):
         blind = silent_world(1, blind=True)
         self.assertIs(makes(blind, 1, anything(1, 10), anything(1, 4)), True)
@@ -416,7 +430,8 @@ class Composed(unittest.TestCase):
                 self.assertEqual(error_of(composed, world, rounds, first, second + second[-1:]), ("BadValue", 4))
 
     def test_it_need_not_be_a_table_of_a_demand(self):
-        self.assertEqual(composed(losses_world(1, 0, blind=True), 1, [(((0, 0), 0, ()), -7)], [(((0, 0), -7, ()), 10 ** 9)]),
+        self.assertEqual(composed(losses_world(1, 0, blind=True), 1, [(((0, 0), 0, ()), -7)],
+                                  [(((0, 0), -7, ()), 10 ** 9)]),
                          ((((0, 0), 0, ()), 10 ** 9),))
 
     def test_wrong_arguments(self):
@@ -534,7 +549,8 @@ class Order(unittest.TestCase):
         for wrong in (-1, 6, 10 ** 30) + NOT_INTEGERS:
             for world in (BLIND, CROWDED):
                 self.assertEqual(error_of(order, world, wrong, None), ("BadValue", 2), repr(wrong)[:80])
-        for wrong in NOT_SEQUENCES + ([perfect(2)] * 7, perfect(2), [MIXED], [perfect(2), perfect(3)], [fits_nothing(2)],
+        for wrong in NOT_SEQUENCES + ([perfect(2)] * 7, perfect(2), [MIXED], [perfect(2), perfect(3)],
+                                      [fits_nothing(2)],
                                       [perfect(2), fits_nothing(2)]):
             self.assertEqual(error_of(order, BLIND, 1, wrong), ("BadValue", 3), repr(wrong)[:80])
         for wrong in NO_DEMANDS:

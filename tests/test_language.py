@@ -189,6 +189,14 @@ class Language(unittest.TestCase):
                     if node.id in known:
                         self.assertIn(node.id, BUILTINS, f"{path.name}:{node.lineno}")
 
+    def test_names_of_classes(self):
+        for node, place in nodes(ast.ClassDef):
+            self.assertRegex(node.name, r"^[A-Za-z]", place)
+
+    def test_tables_of_functions_are_called_by_a_name(self):
+        for node, place in nodes(ast.Call):
+            self.assertNotIsInstance(node.func, (ast.Subscript, ast.Call, ast.Lambda), place)
+
     def test_locals_do_not_have_the_names_of_imports_and_classes(self):
         for path, tree in trees().items():
             top = {name.asname or name.name for node in tree.body if isinstance(node, ast.ImportFrom)

@@ -67,7 +67,8 @@ class Make(unittest.TestCase):
     def test_a_refutation_by_hand(self):
         # Node 0 cannot tell the moves apart; of the marks one asks for 0, the other one for 1.
         world = hints_world(2, (0, 1))
-        same = type(world)(1, world.states[:2] + ((0, (0,), False, ((((),), (0,), 0), (((),), (0,), 1))),), 2, blind=True)
+        same = type(world)(1, world.states[:2] + ((0, (0,), False, ((((),), (0,), 0), (((),), (0,), 1))),), 2,
+                           blind=True)
         demand = Demand(1, 2, [[(0, ((0,),), 0), (1, ((1,),), 0)]], [0])
         self.assertEqual(make(world, 1, demand)[0], "table")
         self.assertEqual(make(same, 1, demand), ("refutation", ("ask", ((0, 0), 0, ()), (
@@ -311,7 +312,8 @@ class BrokenRun(unittest.TestCase):
 
     def test_sights_that_do_not_occur_do_not_matter(self):
         table = make(TWO, 1, SAME)[1]
-        for other in (((0, 0), 5), ((0, 1), 0), (None, 7), (True, 1), (5, 1), ("x", 0), ([], 3), ((table[0][0], 0, ()), 9),
+        for other in (((0, 0), 5), ((0, 1), 0), (None, 7), (True, 1), (5, 1), ("x", 0), ([], 3),
+                      ((table[0][0], 0, ()), 9),
                       (((0, 0), False, ((1, 0),)), 1), (((False, 0), 0, ((1, 0),)), 1)):
             self.assertIsNone(broken_run(TWO, 1, SAME, table + (other,)))
             self.assertIsNone(broken_run(TWO, 1, SAME, listed((other,) + table)))

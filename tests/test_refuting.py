@@ -86,12 +86,17 @@ class RefutationHolds(unittest.TestCase):
                       ("ask", ONE, (first,)), ("ask", ONE, (first, second, second)), ("ask", ONE, ()), ("ask", ONE),
                       ("ask", ONE, first), ("ask", ONE, None), ("ask", ONE, TREE[2], 0), ("Ask", ONE, TREE[2]),
                       ("broken", ONE, TREE[2]), (None, ONE, TREE[2]), (["ask"], ONE, TREE[2]), (("ask", ONE, TREE[2]),),
-                      first, second, SAME_ENDS, OTHER_ENDS, ("broken",), ("broken", ((0, 0), ())), ("ask", (0, 0), TREE[2]),
+                      first, second, SAME_ENDS, OTHER_ENDS, ("broken",), ("broken", ((0, 0), ())),
+                      ("ask", (0, 0), TREE[2]),
                       ("ask", ONE, (first, SAME_ENDS)), ("ask", ONE, (OTHER_ENDS, second)),
                       ("ask", (ONE, 0, ()), TREE[2]), ("ask", ((0, 0), 1, ()), TREE[2]), ("ask", None, TREE[2]),
                       ("ask", ((0, 0), 0, ((1, 0),)), TREE[2]), ("ask", ((False, 0), 0, ()), TREE[2]),
                       ("ask", ((0, 0), False, ()), TREE[2]), ("ask", ((0, False), 0, ()), TREE[2])):
             self.assertIs(refutation_holds(PAIR, 1, XOR, wrong), False, wrong)
+        for word in ("Broken", "ask", "break", "", None, 0, True, ["broken"], ("broken",)):
+            wrong = ("ask", ONE, (("ask", OTHER, (OTHER_ENDS, (word, SAME_ENDS[1]))), second))
+            self.assertIs(refutation_holds(PAIR, 1, XOR, wrong), False, word)
+            self.assertIs(refutation_holds(PAIR, 1, anything(2, 2), (word, OTHER_ENDS[1])), False, word)
         for run in (((0, 0), (2,)), ((0, 1), (0,)), ((0, 0), (0, 0)), ((0, 0), ()), ((0, 0), (False,)), (0, 0), None,
                     ((0, 0), (0,), ()), ((0,), (0,)), "run", (((0, 0), (0,)),), ((0, 0), ((0,),)), ((0, False), (0,))):
             wrong = ("ask", ONE, (("ask", OTHER, (OTHER_ENDS, ("broken", run))), second))

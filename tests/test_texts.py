@@ -93,7 +93,8 @@ class Printed(unittest.TestCase):
     def test_by_hand(self):
         self.assertEqual(printed(WORLD), WORLD_TEXT)
         self.assertEqual(printed(DEMAND), DEMAND_TEXT)
-        self.assertEqual(printed(losses_world(1, 0)), "world 1 start 0 blind no\nstate 0 mark 0 live 0 due no\nto 0 - 0\n")
+        self.assertEqual(printed(losses_world(1, 0)),
+                         "world 1 start 0 blind no\nstate 0 mark 0 live 0 due no\nto 0 - 0\n")
         self.assertEqual(printed(Demand(1, 1, [[]], [0])), "demand 1 outs 1\nstarts 0 0\nstate 0\n")
         self.assertEqual(printed(perfect(1)), "demand 1 outs 2\nstarts 0 0\nstate 0\nmark 0 to 0 0\nmark 1 to 0 x\n")
 
@@ -126,8 +127,10 @@ class Parse(unittest.TestCase):
         self.assertNotEqual(parse(WORLD_TEXT.replace("blind yes", "blind no")), WORLD)
 
     def test_texts_that_end_too_soon(self):
-        for text, at in (("", 0), ("world 1 start 0 blind no", 0), ("world 1 start 0 blind no\n", 1), ("demand 1 outs 1", 0),
-                         ("demand 1 outs 1\n", 1), ("demand 1 outs 1\nstarts 0 0", 1), ("demand 1 outs 1\nstarts 0 0\n", 2),
+        for text, at in (("", 0), ("world 1 start 0 blind no", 0), ("world 1 start 0 blind no\n", 1),
+                         ("demand 1 outs 1", 0),
+                         ("demand 1 outs 1\n", 1), ("demand 1 outs 1\nstarts 0 0", 1),
+                         ("demand 1 outs 1\nstarts 0 0\n", 2),
                          ("demand 1 outs 1\nstarts 0 0\nstate 0", 2), ("\n", 0), (" \n", 0), ("x", 0),
                          (WORLD_TEXT[:-1], 8), (DEMAND_TEXT[:-1], 5), (WORLD_TEXT + "x", 9), (WORLD_TEXT + " ", 9),
                          (WORLD_TEXT + "\n", 9), ("\n" + WORLD_TEXT, 0), (DEMAND_TEXT + "\n", 6), (DEMAND_TEXT * 2, 6),
@@ -141,7 +144,8 @@ class Parse(unittest.TestCase):
                     self.assertEqual(error_of(parse, text[:end]), ("BadSyntax", told), text[:end])
 
     def test_changed_words(self):
-        changes = (("world 2", "world 02", 0), ("world 2", "world 5", 0), ("world 2", "world 0", 0), ("world 2", "world", 0),
+        changes = (("world 2", "world 02", 0), ("world 2", "world 5", 0), ("world 2", "world 0", 0),
+                   ("world 2", "world", 0),
                    ("world 2", "World 2", 0), ("world 2", "world  2", 0), ("world 2", " world 2", 0),
                    ("world 2", "world +2", 0), ("world 2", "world 22", 0), ("start 0", "start -0", 0),
                    ("start 0", "start 00", 0), ("start 0", "start 1234567890", 0), ("start 0", "begin 0", 0),
@@ -168,8 +172,10 @@ class Parse(unittest.TestCase):
                    ("starts 0 1 0,1 0", "starts 0 1 0,1 0 0", 1), ("starts 0 1", "starts 0  1", 1),
                    ("starts 0 1", "starts 0 -", 1), ("starts 0 1", "starts 0 x", 1), ("starts 0 1", "starts 0 01", 1),
                    ("starts 0 1", "starts 0 -1", 1), ("0,1 0\n", "0,1 \n", 1), ("starts 0 1 0,1 0\n", "", 1),
-                   ("state 0", "state 0 ", 2), ("state 0", "state 1", 2), ("state 0\n", "", 2), ("mark 3", "mark -3", 3),
-                   ("mark 3 to 1", "mark 3 to", 3), ("mark 3 to 1", "to 1 mark 3", 3), ("mark 3 to 1", "mark 3 to 01", 3),
+                   ("state 0", "state 0 ", 2), ("state 0", "state 1", 2), ("state 0\n", "", 2),
+                   ("mark 3", "mark -3", 3),
+                   ("mark 3 to 1", "mark 3 to", 3), ("mark 3 to 1", "to 1 mark 3", 3),
+                   ("mark 3 to 1", "mark 3 to 01", 3),
                    ("0,11 x", "0,11 -", 3), ("0,11 x", "0,11", 3), ("0,11 x", "0,11 x x", 3), ("0,11 x", "0,11 x,0", 3),
                    ("0,11 x", "0;11 x", 3), ("0,11 x", "0,1234567890 x", 3), ("5 0,1,2", "5 0,1,02", 4),
                    ("5 0,1,2", "5  0,1,2", 4), ("state 1\n", "state 2\n", 5), ("state 1\n", "state 1\n\n", 6))
@@ -206,11 +212,13 @@ class Parse(unittest.TestCase):
         self.assertGreater(min(found.values()), 300)
 
     def test_right_texts_with_wrong_values(self):
-        for old, new, error in (("start 0", "start 3", ("BadValue", 3)), ("start 0", "start 999999999", ("BadValue", 3)),
+        for old, new, error in (("start 0", "start 3", ("BadValue", 3)),
+                                ("start 0", "start 999999999", ("BadValue", 3)),
                                 ("mark 10", "mark 10001", ("BadState", 0)), ("live 0,1", "live 1,0", ("BadState", 0)),
                                 ("live 0,1", "live 0,0", ("BadState", 0)), ("live 0,1", "live 0,2", ("BadState", 0)),
                                 ("live 0,1", "live -", ("BadState", 0)), ("0 -17", "0 -1001", ("BadState", 0)),
-                                ("1 1000", "1 999999999", ("BadState", 0)), ("to 1 x x 0", "to 9 x x 0", ("BadState", 0)),
+                                ("1 1000", "1 999999999", ("BadState", 0)),
+                                ("to 1 x x 0", "to 9 x x 0", ("BadState", 0)),
                                 ("to 1 x x 0", "to 1 x x -", None), ("to 1 x x 0", "to 1 x x 1", ("BadState", 0)),
                                 ("to 1 x x 0 -17", "to 1 - 0 0 -17", ("BadState", 0)), ("- 5", "0 5", ("BadState", 1)),
                                 ("to 2 x x x x\nstate 2", "to 1 x x - 5\nstate 2", ("BadState", 1)),
@@ -223,7 +231,8 @@ class Parse(unittest.TestCase):
                                 ("outs 12", "outs 11", ("BadRow", 0)), ("starts 0", "starts 2", ("BadValue", 4)),
                                 ("0,1 0\n", "1,0 0\n", ("BadValue", 4)), ("0,1 0\n", "1,1 0\n", ("BadValue", 4)),
                                 ("mark 10000", "mark 10001", ("BadRow", 0)), ("to 1", "to 2", ("BadRow", 0)),
-                                ("0,11", "11,0", ("BadRow", 0)), ("0,11", "0,0", ("BadRow", 0)), ("0,11 x", "x x", None),
+                                ("0,11", "11,0", ("BadRow", 0)), ("0,11", "0,0", ("BadRow", 0)),
+                                ("0,11 x", "x x", None),
                                 ("state 1\n", "state 1\nmark 0 to 5 0 0\n", ("BadRow", 1)),
                                 ("state 1\n", "state 1\nmark 0 to 0 0 0\nmark 0 to 0 0 0\n", ("BadRow", 1))):
             self.assertIn(old, DEMAND_TEXT)
@@ -233,8 +242,10 @@ class Parse(unittest.TestCase):
 
     def test_numbers_of_9_and_10_digits(self):
         text = "world 1 start 0 blind no\nstate 0 mark 0 live 0 due no\nto 0 - {}\n"
-        for hint, error in (("123456789", ("BadState", 0)), ("-123456789", ("BadState", 0)), ("1000", None), ("-1000", None),
-                            ("1234567890", ("BadSyntax", 2)), ("-1234567890", ("BadSyntax", 2)), ("-0", ("BadSyntax", 2))):
+        for hint, error in (("123456789", ("BadState", 0)), ("-123456789", ("BadState", 0)), ("1000", None),
+                            ("-1000", None),
+                            ("1234567890", ("BadSyntax", 2)), ("-1234567890", ("BadSyntax", 2)),
+                            ("-0", ("BadSyntax", 2))):
             self.assertEqual(error_of(parse, text.format(hint)), error)
 
     def test_400_states_and_2000_moves_and_more(self):
